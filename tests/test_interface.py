@@ -1,0 +1,119 @@
+"""The names, parameters and places that the interface lists."""
+
+import importlib
+import inspect
+import unittest
+
+FUNCTIONS = {
+    "triplefree.base": [
+        "base_member(number)",
+        "in_base(x)",
+        "base_rank(x)",
+        "next_base(x)",
+        "last_base(x)",
+        "base_gap(number)",
+        "base_sum(number)",
+        "mirror(x, power)",
+        "plain_pair(m)",
+        "sum_count(m)",
+        "sum_pairs(m)",
+        "difference_pair(d)",
+        "join(*members)",
+        "meet(*members)",
+        "base_members(start=0)",
+    ],
+    "triplefree.greedy": [
+        "first_difference(one, other)",
+        "common_beginning(*sequences)",
+        "smallest_triple(*numbers)",
+    ],
+}
+GENERATORS = ["sum_pairs", "base_members", "coverings", "walk"]
+CLASSES = {
+    "triplefree.base": {
+        "Ternary(number)": [
+            "static is_digit(value)",
+            "class from_digits(*digits)",
+            "property number",
+            "property digits",
+            "property ones",
+            "property is_plain",
+            "method __eq__(self, other)",
+            "method __str__(self)",
+        ],
+    },
+    "triplefree.greedy": {
+        "GreedySequence(start)": [
+            "class of_numbers(*numbers)",
+            "static is_start(value)",
+            "property start",
+            "property last",
+            "property horizon",
+            "property beginning",
+            "method member(self, number)",
+            "method contains(self, x)",
+            "method rank(self, x)",
+            "method next_member(self, x)",
+            "method coverings(self, x)",
+            "method cover(self, x)",
+            "method check_cover(self, x, pair)",
+            "method walk(self, number=0)",
+            "method continued(self, count)",
+            "method shifted(self, shift)",
+            "method __eq__(self, other)",
+            "method __str__(self)",
+        ],
+        "ClosestSequence(start)": [
+            "method coverings(self, x)",
+            "method cover(self, x)",
+        ],
+    },
+}
+
+
+def kind_of(value):
+    """The word for the kind of what stands in a class."""
+    for word, kind in (("static", staticmethod), ("class", classmethod), ("property", property)):
+        if isinstance(value, kind):
+            return word
+    return "method"
+
+
+def described(made, name):
+    """The description of what stands under a name in the body of a class."""
+    value = vars(made)[name]
+    word = kind_of(value)
+    if word == "property":
+        return f"property {name}"
+    return f"{word} {name}{inspect.signature(getattr(made, name))}"
+
+
+class InterfaceTest(unittest.TestCase):
+    def test_functions(self):
+        for place, rows in FUNCTIONS.items():
+            module = importlib.import_module(place)
+            for row in rows:
+                made = getattr(module, row.split("(")[0])
+                self.assertEqual(made.__module__, place)
+                self.assertEqual(f"{made.__name__}{inspect.signature(made)}", row)
+                self.assertEqual(inspect.isgeneratorfunction(made), made.__name__ in GENERATORS)
+
+    def test_classes(self):
+        for place, table in CLASSES.items():
+            module = importlib.import_module(place)
+            for row, members in table.items():
+                made = getattr(module, row.split("(")[0])
+                self.assertEqual(made.__module__, place)
+                self.assertEqual(f"{made.__name__}{inspect.signature(made)}", row)
+                for member in members:
+                    name = member.split("(")[0].split(" ")[1]
+                    self.assertEqual(described(made, name), member)
+                    self.assertEqual(inspect.isgeneratorfunction(vars(made)[name]), name in GENERATORS)
+
+    def test_closest_sequence_is_a_greedy_sequence(self):
+        module = importlib.import_module("triplefree.greedy")
+        self.assertEqual(module.ClosestSequence.__bases__, (module.GreedySequence,))
+
+
+if __name__ == "__main__":
+    unittest.main()

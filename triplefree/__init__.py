@@ -1,0 +1,1 @@
+"""Triplefree: greedy sets without evenly spaced triples."""
