@@ -1,6 +1,8 @@
 """Values and plain definitions that several test files use."""
 
 import itertools
+import os
+import sys
 
 HUGE = 10 ** 600 - 1
 SEED_NUMBERS = (
@@ -8,6 +10,30 @@ SEED_NUMBERS = (
     + [3 ** e + d for e in (5, 40, 1257) for d in (-1, 0, 1)]
     + [(3 ** e - 1) // 2 + d for e in (5, 40, 1257) for d in (-1, 0, 1)]
     + [2 ** 1990, 10 ** 599, HUGE, 7 ** 700, int("123456789" * 66)]
+)
+# Cells, found by the definition among all sets with moduli up to 12 and by products of them.
+SMALL_CELLS = [
+    (1, (0,)),
+    (3, (0, 1)),
+    (3, (0, 2)),
+    (3, (1, 2)),
+    (9, (0, 1, 3, 4)),
+    (9, (0, 2, 6, 8)),
+    (9, (1, 3, 6, 7)),
+    (9, (4, 5, 7, 8)),
+    (10, (0, 1, 7, 8)),
+    (10, (1, 2, 8, 9)),
+    (27, (0, 1, 3, 4, 9, 10, 12, 13)),
+    (27, (0, 3, 4, 7, 9, 12, 13, 16)),
+    (30, (0, 1, 3, 4, 21, 22, 24, 25)),
+    (30, (0, 1, 7, 8, 10, 11, 17, 18)),
+]
+# Numbers of up to sixty digits.
+GREAT_NUMBERS = (
+    [10 ** 59, 10 ** 60 - 1, 2 ** 190, 7 ** 70, int("123456789" * 6), 20000 * 3 ** 100 + 777]
+    + [3 ** 100 + d for d in (-1, 0, 1)]
+    + [10 * (3 ** 90 - 1) // 2 + d for d in (0, 1, 7, 9)]
+    + [27 * (3 ** 40 + 3 ** 7) + d for d in (-1, 0, 1, 13, 26)]
 )
 
 
@@ -69,6 +95,67 @@ def plain_greedy(start, limit):
         if not any(2 * z - x in known for z in members):
             members.append(x)
     return members
+
+
+def plain_clash(modulus, members):
+    """The smallest (y, z, x) of members that violates (a) of [20], or None."""
+    for y, z, x in itertools.product(members, repeat=3):
+        if (2 * z - y - x) % modulus == 0 and not y == z == x:
+            return (y, z, x)
+    return None
+
+
+def plain_servers(modulus, members, remainder):
+    """The pairs that serve a remainder as in (b) of [20], with their carries, the serving pair first."""
+    rows = []
+    for y, z in itertools.combinations(members, 2):
+        if 2 * z - y == remainder:
+            rows.append((0, y, z))
+        if 2 * z - y == remainder + modulus and remainder < members[-1]:
+            rows.append((1, y, z))
+    return sorted(rows)
+
+
+def plain_violation(modulus, members):
+    """What violates the definition of a cell, or None."""
+    clash = plain_clash(modulus, members)
+    if clash is not None:
+        return ("free", *clash)
+    for remainder in range(modulus):
+        if remainder not in members and not plain_servers(modulus, members, remainder):
+            return ("served", remainder)
+    return None
+
+
+def plain_ruled(modulus, members, limit):
+    """The members below limit of the set in [21]."""
+    return sorted(a + modulus * b for b in plain_base(limit // modulus + 1) for a in members if a + modulus * b < limit)
+
+
+def in_plain_ruled(modulus, members, x):
+    """True if x is in the set of [21]."""
+    return x >= 0 and x % modulus in members and "2" not in ternary_word(x // modulus)
+
+
+def lines_run(call, *args):
+    """How many lines of the package a call runs."""
+    folder = os.sep + "triplefree" + os.sep
+    count = 0
+
+    def note(frame, event, _):
+        nonlocal count
+        if folder not in frame.f_code.co_filename:
+            return None
+        count += event == "line"
+        return note
+
+    before = sys.gettrace()
+    sys.settrace(note)
+    try:
+        call(*args)
+    finally:
+        sys.settrace(before)
+    return count
 
 
 class Checks:

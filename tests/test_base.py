@@ -251,5 +251,19 @@ class TernaryTest(unittest.TestCase, Checks):
         self.assertFalse(Ternary.is_digit(Thing()))
 
 
+class FarBeyondTest(unittest.TestCase):
+    def test_numbers_of_more_digits_than_the_document_asks_for(self):
+        for power in (1023, 1024, 1025, 2048, 4300, 5000, 9000):
+            great = 3 ** power
+            self.assertEqual(base.base_member(2 ** power), great)
+            self.assertEqual(base.base_member(2 ** power - 1), (great - 1) // 2)
+            self.assertEqual(base.base_rank(great), 2 ** power)
+            self.assertEqual(base.last_base(great - 1), (great - 1) // 2)
+            self.assertEqual(base.next_base((great - 1) // 2), great)
+            self.assertEqual(base.plain_pair(great - 1), (0, (great - 1) // 2))
+            self.assertEqual(base.join(great, 1, (great - 1) // 2), (3 * great - 1) // 2)
+            self.assertEqual(base.difference_pair(1 - great), (1, great))
+
+
 if __name__ == "__main__":
     unittest.main()

@@ -88,7 +88,8 @@ class FormTest(unittest.TestCase):
                 elif isinstance(node, (ast.FunctionDef, ast.ClassDef)):
                     bound.append(node.name)
                 elif isinstance(node, ast.Assign):
-                    self.assertIsInstance(node.value, ast.Constant, name)
+                    for part in ast.walk(node.value):
+                        self.assertIsInstance(part, (ast.Constant, ast.Tuple, ast.Dict, ast.BinOp, ast.Pow, ast.Load), name)
                     bound.append(node.targets[0].id)
             self.assertEqual(len(bound), len(set(bound)), name)
 

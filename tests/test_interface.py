@@ -28,7 +28,7 @@ FUNCTIONS = {
         "smallest_triple(*numbers)",
     ],
 }
-GENERATORS = ["sum_pairs", "base_members", "coverings", "walk"]
+GENERATORS = ["sum_pairs", "base_members", "coverings", "walk", "uncovered"]
 CLASSES = {
     "triplefree.base": {
         "Ternary(number)": [
@@ -66,6 +66,77 @@ CLASSES = {
         "ClosestSequence(start)": [
             "method coverings(self, x)",
             "method cover(self, x)",
+        ],
+    },
+    "triplefree.cells": {
+        "Cell(modulus, members)": [
+            "property modulus",
+            "property members",
+            "property size",
+            "property greatest",
+            "method has(self, remainder)",
+            "method serving_pair(self, remainder)",
+            "method carry(self, remainder)",
+            "class base(*, digits=1)",
+            "static violation(modulus, members)",
+            "method __eq__(self, other)",
+            "method __str__(self)",
+        ],
+    },
+    "triplefree.ruled": {
+        "RuledSequence(cell)": [
+            "property cell",
+            "method member(self, number)",
+            "method rank(self, x)",
+            "method contains(self, x)",
+            "method next_member(self, x)",
+            "method last_member(self, x)",
+            "method cover(self, x)",
+            "method check_cover(self, x, pair)",
+            "method gap(self, number)",
+            "method walk(self, start=0)",
+            "method uncovered(self)",
+            "method tripled(self)",
+            "method __len__(self)",
+            "method __eq__(self, other)",
+        ],
+        "ShiftedSequence(cell, *, shift=0)": [
+            "property shift",
+            "method member(self, number)",
+            "method rank(self, x)",
+            "method contains(self, x)",
+            "method next_member(self, x)",
+            "method last_member(self, x)",
+            "method cover(self, x)",
+            "method check_cover(self, x, pair)",
+            "method gap(self, number)",
+            "method walk(self, start=0)",
+            "method uncovered(self)",
+            "method tripled(self)",
+            "method __len__(self)",
+            "method __eq__(self, other)",
+        ],
+    },
+    "triplefree.counts": {
+        "Counts(sequence)": [
+            "property sequence",
+            "class of_cell(modulus, members)",
+            "static base_sum(number)",
+            "method count_between(self, low, high)",
+            "method count_in(self, *intervals)",
+            "method sum_of_first(self, number)",
+            "method sum_up_to(self, x)",
+            "method sums_by_name(self, **bounds)",
+            "method covering_count(self, x)",
+            "method coverings(self, x)",
+            "method coverings_up_to(self, x)",
+            "method gap_count(self, length, number)",
+            "method first_gap(self, length)",
+            "method longest_gap(self, number)",
+            "method __eq__(self, other)",
+        ],
+        "BaseCounts()": [
+            "method readings(self, m)",
         ],
     },
 }
@@ -110,9 +181,15 @@ class InterfaceTest(unittest.TestCase):
                     self.assertEqual(described(made, name), member)
                     self.assertEqual(inspect.isgeneratorfunction(vars(made)[name]), name in GENERATORS)
 
-    def test_closest_sequence_is_a_greedy_sequence(self):
-        module = importlib.import_module("triplefree.greedy")
-        self.assertEqual(module.ClosestSequence.__bases__, (module.GreedySequence,))
+    def test_base_classes(self):
+        rows = [
+            ("triplefree.greedy", "ClosestSequence", "GreedySequence"),
+            ("triplefree.ruled", "ShiftedSequence", "RuledSequence"),
+            ("triplefree.counts", "BaseCounts", "Counts"),
+        ]
+        for place, name, base in rows:
+            module = importlib.import_module(place)
+            self.assertEqual(getattr(module, name).__bases__, (getattr(module, base),))
 
 
 if __name__ == "__main__":

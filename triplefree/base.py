@@ -1,55 +1,83 @@
 """The base set B: the integers whose ternary digits are all 0 or 1."""
 
-from triplefree.checks import check_number, is_between, is_number, is_whole
+from triplefree.common import check_number, is_between, is_number, is_whole
 from triplefree.errors import InvalidMembers, InvalidNumber
 
 MAX_POWER = 2000
 
+# Great numbers are taken apart in blocks of 16 digits, and these in fours, which is faster than digit by digit.
+BLOCK_POWER = 3 ** 16
+FOURS = (
+    "0000", "0001", "0002", "0010", "0011", "0012", "0020", "0021", "0022",
+    "0100", "0101", "0102", "0110", "0111", "0112", "0120", "0121", "0122",
+    "0200", "0201", "0202", "0210", "0211", "0212", "0220", "0221", "0222",
+    "1000", "1001", "1002", "1010", "1011", "1012", "1020", "1021", "1022",
+    "1100", "1101", "1102", "1110", "1111", "1112", "1120", "1121", "1122",
+    "1200", "1201", "1202", "1210", "1211", "1212", "1220", "1221", "1222",
+    "2000", "2001", "2002", "2010", "2011", "2012", "2020", "2021", "2022",
+    "2100", "2101", "2102", "2110", "2111", "2112", "2120", "2121", "2122",
+    "2200", "2201", "2202", "2210", "2211", "2212", "2220", "2221", "2222",
+)
 
-def ternary_digits(number):
-    """The ternary digits of a number, the least significant one first."""
-    digits = []
+DIGITS = {"0": 0, "1": 1, "2": 2}
+
+# Python reads at most 4300 ternary digits at once, so longer texts are read in pieces.
+PIECE = 1024
+PIECE_POWER = (3 ** 64) ** 16
+
+
+def ternary_text(number):
+    """The ternary digits of a number, the most significant one first, empty for 0."""
+    if number < 81:
+        return FOURS[number].lstrip("0")
+    parts = []
+    while number >= BLOCK_POWER:
+        number, block = divmod(number, BLOCK_POWER)
+        high, low = divmod(block, 6561)
+        parts.append(f"{FOURS[high // 81]}{FOURS[high % 81]}{FOURS[low // 81]}{FOURS[low % 81]}")
     while number > 0:
-        digits.append(number % 3)
-        number //= 3
-    return digits
+        number, four = divmod(number, 81)
+        parts.append(FOURS[four])
+    return "".join(reversed(parts)).lstrip("0")
 
 
-def ternary_number(digits):
-    """The number with these ternary digits, the least significant one first."""
-    number = 0
-    for digit in reversed(digits):
-        number = 3 * number + digit
+def ternary_number(text):
+    """The number with these ternary digits, the most significant one first."""
+    if len(text) < PIECE:
+        return int("0" + text, 3)
+    head = len(text) % PIECE
+    number = int("0" + text[:head], 3)
+    for place in range(head, len(text), PIECE):
+        number = number * PIECE_POWER + int(text[place:place + PIECE], 3)
     return number
+
+
+def text_rank(text):
+    """The number of members of the base set that are less than the number with these ternary digits."""
+    front, two, rest = text.partition("2")
+    rank = int("0" + front, 2)
+    if two:
+        # All members with the same digits in front are less, whatever follows.
+        return (rank + 1) << (len(rest) + 1)
+    return rank
 
 
 def base_member(number):
     """Member number number of the base set, counted from 0."""
     check_number(number)
-    digits = []
-    while number > 0:
-        digits.append(number % 2)
-        number //= 2
-    return ternary_number(digits)
+    return ternary_number(f"{number:b}")
 
 
 def in_base(x):
     """True if x is in the base set."""
     check_number(x)
-    return 2 not in ternary_digits(x)
+    return "2" not in ternary_text(x)
 
 
 def base_rank(x):
     """The number of members of the base set that are less than x."""
     check_number(x)
-    digits = ternary_digits(x)
-    rank = 0
-    for place in reversed(range(len(digits))):
-        if digits[place] == 2:
-            # All members with the same digits in front are less than x, whatever follows.
-            return (rank + 1) << (place + 1)
-        rank = 2 * rank + digits[place]
-    return rank
+    return text_rank(ternary_text(x))
 
 
 def next_base(x):
@@ -61,33 +89,35 @@ def next_base(x):
 def last_base(x):
     """The greatest member of the base set that is not greater than x."""
     check_number(x)
-    return base_member(base_rank(x + 1) - 1)
+    front, two, rest = ternary_text(x).partition("2")
+    if two:
+        return ternary_number(front + "1" * (len(rest) + 1))
+    return x
 
 
 def base_gap(number):
     """The difference between member number number and the one before it."""
     if not is_number(number) or number == 0:
         raise InvalidNumber(number)
-    power = 1
-    while number % 2 == 0:
-        number //= 2
-        power *= 3
-    return (power + 1) // 2
+    # The greatest power of 2 in number is the number of the power of 3.
+    return (base_member(number & -number) + 1) // 2
 
 
 def base_sum(number):
     """The sum of the first members, as many as number says."""
     check_number(number)
     total = 0
-    place = 1
-    power = 1
-    while place < number:
-        whole, rest = divmod(number, 2 * place)
-        # So many of the numbers below number have the binary digit 1 at this place.
-        ones = whole * place + max(0, rest - place)
-        total += power * ones
-        place *= 2
-        power *= 3
+    count = 0
+    member = 0
+    for bit in f"{number:b}":
+        # Twice as many members are those of the first ones with a digit 0 or 1 behind them.
+        total = 6 * total + count
+        count *= 2
+        member *= 3
+        if bit == "1":
+            total += member
+            count += 1
+            member += 1
     return total
 
 
@@ -104,110 +134,99 @@ def mirror(x, power):
 def plain_pair(m):
     """The plain pair (y, z) of m: y <= z in the base set with 2 z - y = m."""
     check_number(m)
-    digits = ternary_digits(m)
-    y = ternary_number([digit % 2 for digit in digits])
-    z = ternary_number([min(digit, 1) for digit in digits])
-    return (y, z)
+    text = ternary_text(m)
+    return (ternary_number(text.replace("2", "0")), ternary_number(text.replace("2", "1")))
+
+
+def number_of_twos(text):
+    """The member of the base set with the digit 1 where these ternary digits are 2."""
+    return ternary_number(text.replace("1", "0").replace("2", "1"))
 
 
 def sum_count(m):
     """The number of ordered pairs of members with the sum m."""
     check_number(m)
-    return 1 << ternary_digits(m).count(1)
+    return 1 << ternary_text(m).count("1")
 
 
 def sum_pairs(m):
     """Yields the ordered pairs of members with the sum m in ascending order."""
     check_number(m)
-    free = one_powers(m)
+    text = ternary_text(m)
     # Both numbers have the digit 1 where m has 2; the ones of m go to either of them.
-    common = (m - sum(free)) // 2
-    for part in subset_sums(free):
-        yield (common + part, m - common - part)
-
-
-def one_powers(m):
-    """The powers of 3 at which m has the ternary digit 1, in ascending order."""
-    powers = []
-    power = 1
-    for digit in ternary_digits(m):
-        if digit == 1:
-            powers.append(power)
-        power *= 3
-    return powers
-
-
-def subset_sums(powers):
-    """Yields the sum of each set of some powers of 3 in ascending order."""
-    taken = [False] * len(powers)
-    total = 0
-    while True:
-        yield total
-        # The powers taken count like binary digits, so a step is a binary carry.
-        place = 0
-        while place < len(powers) and taken[place]:
-            taken[place] = False
-            total -= powers[place]
-            place += 1
-        if place == len(powers):
-            return
-        taken[place] = True
-        total += powers[place]
+    low = number_of_twos(text)
+    yield (low, m - low)
+    steps = []
+    lesser = 0
+    place = text.rfind("1")
+    while place >= 0:
+        power = ternary_number("1" + "0" * (len(text) - place - 1))
+        # Where a power comes in, all lesser ones go.
+        steps.append(power - lesser)
+        lesser += power
+        for number in range(1 << (len(steps) - 1), 1 << len(steps)):
+            # The powers in low are the binary digits of number, the lowest one has come in now.
+            low += steps[(number & -number).bit_length() - 1]
+            yield (low, m - low)
+        place = text.rfind("1", 0, place)
 
 
 def difference_pair(d):
     """The members x and y without a common digit 1 whose difference x - y is d."""
     if not is_whole(d):
         raise InvalidNumber(d)
-    x = 0
-    y = 0
-    power = 1
-    while d != 0:
-        if d % 3 == 1:
-            x += power
-        if d % 3 == 2:
-            y += power
-        # Rounds to the nearest third, so that the remainder 2 counts as the digit -1.
-        d = (d + 1) // 3
-        power *= 3
-    return (x, y)
+    size = len(ternary_text(abs(d))) + 1
+    # A 1 added to each digit turns the digits -1, 0 and 1 into 0, 1 and 2.
+    text = ternary_text(d + ternary_number("1" * size)).zfill(size)
+    negative = text.replace("2", "1").replace("0", "2")
+    return (number_of_twos(text), number_of_twos(negative))
 
 
-def check_members(values):
-    """Raises InvalidMembers for the first value that is not in the base set."""
+def member_ranks(values):
+    """The ranks of some members; raises InvalidMembers for the first value that is not in the base set."""
+    ranks = []
     for index, value in enumerate(values):
-        if not is_number(value) or not in_base(value):
+        if not is_number(value):
             raise InvalidMembers(index)
+        text = ternary_text(value)
+        if "2" in text:
+            raise InvalidMembers(index)
+        ranks.append(text_rank(text))
+    return ranks
 
 
 def join(*members):
     """The member with the digit 1 where at least one of the members has it."""
-    check_members(members)
-    rank = 0
-    for member in members:
-        rank = rank | base_rank(member)
-    return base_member(rank)
+    joined = 0
+    for rank in member_ranks(members):
+        joined = joined | rank
+    return base_member(joined)
 
 
 def meet(*members):
     """The member with the digit 1 where all of the members have it."""
     if not members:
         raise InvalidMembers(None)
-    check_members(members)
-    rank = base_rank(members[0])
-    for member in members:
-        rank = rank & base_rank(member)
-    return base_member(rank)
+    ranks = member_ranks(members)
+    common = ranks[0]
+    for rank in ranks:
+        common = common & rank
+    return base_member(common)
 
 
 def base_members(start=0):
     """Yields the members of the base set from member number start on, for ever."""
     member = base_member(start)
     number = start
+    # The gaps in front of the members whose numbers have the exponents 0, 1, .. of 2.
+    gaps = [1]
     while True:
         yield member
         number += 1
-        member += base_gap(number)
+        exponent = (number & -number).bit_length() - 1
+        while exponent >= len(gaps):
+            gaps.append(3 * gaps[-1] - 1)
+        member += gaps[exponent]
 
 
 class Ternary:
@@ -218,7 +237,8 @@ class Ternary:
     def __init__(self, number):
         check_number(number)
         self._number = number
-        self._digits = tuple(reversed(ternary_digits(number)))
+        self._text = ternary_text(number)
+        self._digits = tuple([DIGITS[digit] for digit in self._text])
 
     @staticmethod
     def is_digit(value):
@@ -248,17 +268,17 @@ class Ternary:
     @property
     def ones(self):
         """The number of digits 1."""
-        return self._digits.count(1)
+        return self._text.count("1")
 
     @property
     def is_plain(self):
         """True if the number is in the base set."""
-        return 2 not in self._digits
+        return "2" not in self._text
 
     def __eq__(self, other):
         return isinstance(other, Ternary) and self._number == other._number
 
     def __str__(self):
-        if not self._digits:
+        if not self._text:
             return "0"
-        return "".join([str(digit) for digit in self._digits])
+        return f"{self._text}"

@@ -1,6 +1,6 @@
 """Greedy sequences: from a start on, always the least number that no two members cover."""
 
-from triplefree.checks import check_number, is_between
+from triplefree.common import check_number, is_between
 from triplefree.errors import InvalidMembers, InvalidNumber, InvalidStart, IsMember, NotCovered, NotFree, TooLarge
 
 
