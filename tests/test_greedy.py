@@ -11,6 +11,17 @@ FORTY = tuple(plain_base(TOP)[:40])
 FORTY_AND_TOP = FORTY[:39] + (TOP,)
 STARTS = [(0,), (0, 2), (5,), (0, 3), (TOP,), (0, TOP), (TOP - 10, TOP), (3, 4, 11, 40), FORTY, FORTY_AND_TOP]
 CLASSES = (GreedySequence, ClosestSequence)
+# Numbers far from each other that cover numbers behind the last one, at both ends of what can be asked for.
+WIDE_STARTS = [
+    (0, 5001, 10000),
+    (0, 5001, 10001),
+    (0, 6500, 11000),
+    (0, 6500, 6501, 11001),
+    (0, 500000, 999990),
+    (4, 500000, 500003, 998500, 999990),
+    (7, 500900, 501500, 999999, TOP),
+    (5, 998001, 999000),
+]
 
 
 def horizon_methods(sequence):
@@ -118,6 +129,31 @@ class MembersTest(unittest.TestCase, Checks):
                 self.same(sequence.member(n), x)
             self.fails(TooLarge, {"limit": 2000}, sequence.member, len(members))
             self.fails(TooLarge, {"limit": 2000}, sequence.member, HUGE)
+
+    def test_wide_starts(self):
+        for start in WIDE_STARTS:
+            members = plain_greedy(start, start[-1] + 2000)
+            sequence = GreedySequence(start)
+            self.assertEqual(list(sequence.walk()), members)
+            self.assertEqual(sequence.beginning, tuple(members[:40]))
+            self.same(sequence.contains(sequence.horizon), sequence.horizon in members)
+            self.assertEqual([x for x in range(start[-1], start[-1] + 2001) if sequence.contains(x)],
+                             [x for x in members if x >= start[-1]])
+
+    def test_the_order_of_questions_has_no_influence(self):
+        for start in [(0, 2), (0, 6500, 11000), FORTY]:
+            members = plain_greedy(start, start[-1] + 2000)
+            for x in [start[-1] + 1, start[-1] + 700, start[-1] + 2000]:
+                sequence = GreedySequence(start)
+                walk = sequence.walk()
+                self.assertEqual(next(walk), members[0])
+                self.same(sequence.rank(x), len([y for y in members if y < x]))
+                self.same(sequence.contains(x), x in members)
+                self.same(sequence.beginning, tuple(members[:40]))
+                self.assertEqual(sequence, GreedySequence(members[:40]) if members[39] <= TOP else sequence)
+                self.same(sequence.member(len(start)), members[len(start)])
+                self.same(sequence.contains(start[-1] + 3), start[-1] + 3 in members)
+                self.assertEqual([members[0], *walk], members)
 
     def test_wrong_member_numbers(self):
         for value in not_numbers():

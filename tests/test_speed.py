@@ -6,9 +6,49 @@ import unittest
 from tests.support import lines_run, plain_base
 from triplefree import base
 from triplefree.cells import Cell
+from triplefree.greedy import ClosestSequence, GreedySequence, common_beginning, first_difference
 
+FORTY = tuple(plain_base(1000)[:40])
+WIDE = (*FORTY[:39], 10 ** 6)
 LONG = (3 ** 190 - 1) // 2
 GREAT = (3 ** 126 - 1) // 2
+
+
+class GreedyTest(unittest.TestCase):
+    def test_making_a_sequence_computes_nothing_behind_the_start(self):
+        for made in (GreedySequence, ClosestSequence):
+            for start in ((0,), (0, 2), (999999, 1000000), FORTY, WIDE):
+                self.assertLess(lines_run(made, start), 2000)
+                sequence = made(start)
+                self.assertLess(lines_run(made.of_numbers, *start), 2000)
+                self.assertLess(lines_run(lambda: (sequence.start, sequence.last, sequence.horizon)), 10)
+                self.assertLess(lines_run(str, sequence), 100)
+        for start in ((0,), (0, 2), FORTY):
+            sequence = GreedySequence(start)
+            self.assertLess(lines_run(sequence.shifted, 5), 1000)
+            self.assertLess(lines_run(sequence.continued, 40), 1500)
+
+    def test_members_are_computed_as_far_as_they_are_asked_for(self):
+        for start in ((0,), (0, 2), (999999, 1000000)):
+            last = start[-1]
+            self.assertLess(lines_run(lambda: GreedySequence(start).member(5)), 250)
+            self.assertLess(lines_run(lambda: GreedySequence(start).contains(last + 10)), 250)
+            self.assertLess(lines_run(lambda: GreedySequence(start).rank(last + 10)), 250)
+            self.assertLess(lines_run(lambda: list(GreedySequence(start).coverings(last + 4))), 250)
+            self.assertLess(lines_run(lambda: list(itertools.islice(GreedySequence(start).walk(), 5))), 250)
+            self.assertLess(lines_run(lambda: GreedySequence(start).beginning), 600)
+            self.assertLess(lines_run(lambda: GreedySequence(start) == GreedySequence((0, 1))), 250)
+            self.assertLess(lines_run(first_difference, GreedySequence(start), GreedySequence((0, 3))), 150)
+            self.assertLess(lines_run(common_beginning, GreedySequence(start), GreedySequence((0, 3))), 150)
+
+    def test_members_are_computed_once(self):
+        sequence = GreedySequence((0, 2))
+        self.assertLess(lines_run(sequence.contains, sequence.horizon), 2500)
+        for x in (10, 1000, sequence.horizon):
+            self.assertLess(lines_run(sequence.contains, x), 20)
+            self.assertLess(lines_run(sequence.rank, x), 100)
+        self.assertLess(lines_run(sequence.member, 60), 20)
+        self.assertLess(lines_run(lambda: sequence.beginning), 20)
 
 
 class DigitsTest(unittest.TestCase):

@@ -1,18 +1,34 @@
 """Greedy sequences: from a start on, always the least number that no two members cover."""
 
-from triplefree.common import check_number, is_between
+from triplefree.common import (
+    bits_of,
+    check_number,
+    count_below,
+    covered_bits,
+    is_between,
+    is_covering,
+    lowest_place,
+    moved,
+)
 from triplefree.errors import InvalidMembers, InvalidNumber, InvalidStart, IsMember, NotCovered, NotFree, TooLarge
+
+
+# Sets of numbers that are not farther from each other than this are kept as bits.
+NEAR = 10000
 
 
 def least_triple(numbers):
     """The smallest triple (y, z, x) of some integers in any order, or None."""
     present = set(numbers)
     ordered = sorted(present)
+    if ordered and ordered[-1] - ordered[0] <= NEAR:
+        distances = [x - ordered[0] for x in ordered]
+        if covered_bits(distances) & bits_of(distances) == 0:
+            return None
     for place, y in enumerate(ordered):
-        for z in ordered[place + 1:]:
-            x = 2 * z - y
-            if x in present:
-                return (y, z, x)
+        middles = [z for z in ordered[place + 1:] if 2 * z - y in present]
+        if middles:
+            return (y, middles[0], 2 * middles[0] - y)
     return None
 
 
@@ -39,22 +55,47 @@ def checked_start(value):
     return tuple(value)
 
 
-def covered_with(members, z, limit):
-    """The numbers up to limit that z covers together with one of some members below z."""
-    return [2 * z - y for y in members if 2 * z - y <= limit]
+def covered_behind(start):
+    """The bits of the numbers from the last one of a start on that the start covers, by their distance from it."""
+    last = start[-1]
+    if last - start[0] <= NEAR:
+        return covered_bits([x - start[0] for x in start]) >> (last - start[0])
+    distances = [2 * z - y - last for place, z in enumerate(start) for y in start[:place]]
+    return bits_of([distance for distance in distances if 0 <= distance <= GreedySequence.REACH])
 
 
-def members_up_to(start, limit):
-    """The members up to limit, which is at least the last number of the start, in ascending order."""
-    members = []
-    covered = {}
-    for x in list(start) + list(range(start[-1] + 1, limit + 1)):
-        # A start is free, so none of its own numbers is left out here.
-        if x not in covered:
-            for later in covered_with(members, x, limit):
-                covered[later] = True
-            members.append(x)
-    return tuple(members)
+def growth_of(start):
+    """The growth of a sequence before any member behind the start: see grown."""
+    reach = GreedySequence.REACH
+    mirrored = bits_of([start[-1] + reach - y for y in start if y >= start[-1] - reach])
+    # The bit 1 in front stands for the last number of the start.
+    return (start, (covered_behind(start) | 1) & window_of(reach), mirrored)
+
+
+def window_of(reach):
+    """The bits for all distances up to reach."""
+    return (1 << (reach + 1)) - 1
+
+
+def grown(last, growth, limit, count):
+    """The growth with all members up to a limit and at least so many members, as far as the horizon.
+
+    A growth has three parts. The first one is the tuple of the first members. The other two are bits: for each number
+    that is a member or covered by these members, its distance from the last number of the start; and for each member,
+    its distance from the horizon. So moving the latter gives what a new member covers, together with the others.
+    """
+    members, decided, mirrored = growth
+    found = list(members)
+    reach = GreedySequence.REACH
+    window = window_of(reach)
+    while found[-1] < limit or len(found) < count:
+        place = lowest_place(decided + 1)
+        if place > reach:
+            break
+        found.append(last + place)
+        decided = decided | (1 << place) | (moved(mirrored, 2 * place - reach) & window)
+        mirrored = mirrored | (1 << (reach - place))
+    return (tuple(found), decided, mirrored)
 
 
 class GreedySequence:
@@ -68,10 +109,11 @@ class GreedySequence:
         self._start = checked_start(start)
         self._last = self._start[-1]
         self._horizon = self._last + self.REACH
-        self._members = members_up_to(self._start, self._horizon)
-        # The first 40 members are at most last + 780, so all of them are known.
-        self._beginning = self._members[:self.MAX_START]
-        self._present = {x: True for x in self._members}
+        # Members behind the start are computed when they are asked for, and not farther.
+        self._members = self._start
+        self._present = {x: True for x in self._start}
+        self._complete = False
+        self._growth = None
 
     @classmethod
     def of_numbers(cls, *numbers):
@@ -99,38 +141,42 @@ class GreedySequence:
 
     @property
     def horizon(self):
-        """The greatest number up to which the members are known."""
+        """The greatest number that questions may be about."""
         return self._horizon
 
     @property
     def beginning(self):
         """The tuple of the first 40 members."""
-        return self._beginning
+        # The first 40 members are at most last + 780, so all of them are before the horizon.
+        return self._first(self.MAX_START)
 
     def member(self, number):
         """Member number number, counted from 0."""
         check_number(number)
-        if number >= len(self._members):
+        members = self._known(0, number + 1)
+        if number >= len(members):
             raise TooLarge(self.REACH)
-        return self._members[number]
+        return members[number]
 
     def contains(self, x):
         """True if x is a member."""
         self._check_reach(x)
+        self._known(x, 0)
         return x in self._present
 
     def rank(self, x):
         """The number of members that are less than x."""
         self._check_reach(x)
-        return len([y for y in self._members if y < x])
+        return count_below(self._known(x, 0), x)
 
     def next_member(self, x):
         """The least member that is greater than x."""
         self._check_reach(x)
-        for y in self._members:
-            if y > x:
-                return y
-        raise TooLarge(self.REACH)
+        members = self._known(x + 1, 0)
+        place = count_below(members, x + 1)
+        if place == len(members):
+            raise TooLarge(self.REACH)
+        return members[place]
 
     def coverings(self, x):
         """Yields the pairs of members that cover x in ascending order."""
@@ -145,24 +191,23 @@ class GreedySequence:
     def check_cover(self, x, pair):
         """True if the pair is a tuple of two members that covers x."""
         self._check_reach(x)
-        if not isinstance(pair, tuple) or len(pair) != 2:
-            return False
-        y, z = pair
-        if not is_between(y, 0, x) or not is_between(z, 0, x):
-            return False
-        return y < z and x - z == z - y and y in self._present and z in self._present
+        return is_covering(pair, x) and self.contains(pair[0]) and self.contains(pair[1])
 
     def walk(self, number=0):
         """Yields the members from member number number on, as far as the horizon."""
         check_number(number)
-        for x in self._members[number:]:
-            yield x
+        members = self._known(0, number + 1)
+        while number < len(members):
+            yield members[number]
+            number += 1
+            if number == len(members):
+                members = self._known(0, 2 * number)
 
     def continued(self, count):
         """The sequence of this class whose start is the first members, as many as count."""
         if not is_between(count, len(self._start), self.MAX_START):
             raise InvalidNumber(count)
-        numbers = self._beginning[:count]
+        numbers = self._known(0, count)[:count]
         if numbers[-1] > self.MAX_FIRST:
             raise TooLarge(self.MAX_FIRST)
         return self.of_numbers(*numbers)
@@ -180,20 +225,44 @@ class GreedySequence:
         if not is_between(x, 0, self._horizon):
             raise InvalidNumber(x)
 
+    def _first(self, count):
+        """The tuple of the first members, as many as count; changes nothing, so that properties can ask for it."""
+        if count <= len(self._members):
+            return self._members[:count]
+        return grown(self._last, self._growth_so_far(), 0, count)[0][:count]
+
+    def _growth_so_far(self):
+        """The growth that is known."""
+        if self._growth is None:
+            return growth_of(self._start)
+        return self._growth
+
+    def _known(self, limit, count):
+        """The tuple of all members up to a limit and at least so many members, as far as the horizon."""
+        if self._members[-1] < limit or len(self._members) < count:
+            if not self._complete:
+                self._grow(limit, count)
+        return self._members
+
+    def _grow(self, limit, count):
+        """Adds all members up to a limit, and at least so many members, to those that are known."""
+        self._growth = grown(self._last, self._growth_so_far(), limit, count)
+        members = self._growth[0]
+        for x in members[len(self._members):]:
+            self._present[x] = True
+        self._members = members
+        self._complete = members[-1] < limit or len(members) < count
+
     def _covering_pairs(self, x):
         """The list of the pairs of members that cover x, in ascending order."""
-        pairs = []
-        for y in self._members:
-            # The middle of y and x is a number only if both are even or both are odd.
-            middle, odd = divmod(y + x, 2)
-            if y < x and odd == 0 and middle in self._present:
-                pairs.append((y, middle))
-        return pairs
+        members = self._known(x, 0)
+        present = self._present
+        # The middle of y and x is a number only if both are even or both are odd.
+        return [(y, (y + x) // 2) for y in members if y < x and (y + x) & 1 == 0 and (y + x) // 2 in present]
 
     def _pairs_of_covered(self, x):
         """The pairs of members that cover x, at least one; raises an error if there is none."""
-        self._check_reach(x)
-        if x in self._present:
+        if self.contains(x):
             raise IsMember(x)
         pairs = self._covering_pairs(x)
         if not pairs:
@@ -201,7 +270,12 @@ class GreedySequence:
         return pairs
 
     def __eq__(self, other):
-        return isinstance(other, GreedySequence) and self._beginning == other._beginning
+        if not isinstance(other, GreedySequence):
+            return False
+        fewer = min(len(self._start), len(other._start))
+        count = max(len(self._start), len(other._start))
+        # Sequences are the same if they agree as far as both starts; most differ before.
+        return self._start[:fewer] == other._start[:fewer] and self._first(count) == other._first(count)
 
     def __str__(self):
         numbers = " ".join([str(x) for x in self._start])
@@ -232,8 +306,9 @@ def check_sequences(values):
 def first_difference(one, other):
     """The first difference and the place, 0 or 1, of the sequence that has it, or None."""
     check_sequences((one, other))
-    # Sequences with the same beginning are the same, so this looks far enough.
-    for x, y in zip(one.beginning, other.beginning):
+    # Different sequences differ before the end of the longer start.
+    count = max(len(one.start), len(other.start))
+    for x, y in zip(one._known(0, count), other._known(0, count)):
         if x < y:
             return (x, 0)
         if y < x:
@@ -246,9 +321,13 @@ def common_beginning(*sequences):
     if not sequences:
         raise InvalidMembers(None)
     check_sequences(sequences)
-    shared = sequences[0].beginning
+    count = max([len(sequence.start) for sequence in sequences])
+    shared = sequences[0]._known(0, count)[:count]
     for sequence in sequences:
-        shared = shared_part(shared, sequence.beginning)
+        shared = shared_part(shared, sequence._known(0, count))
+    if len(shared) == count:
+        # All sequences are the same.
+        return sequences[0].beginning
     return shared
 
 
