@@ -150,5 +150,4 @@ class Cell:
         return isinstance(other, Cell) and self._modulus == other._modulus and self._members == other._members
 
     def __str__(self):
-        members = " ".join([str(a) for a in self._members])
-        return f"{self._modulus} : {members}"
+        return " ".join([str(self._modulus), ":"] + [str(a) for a in self._members])

@@ -45,6 +45,7 @@ def summed_base_counts(text):
     all_less = 0
     all_same = 1
     for digit in text:
+        # Each pair up to n has four pairs with one digit more, but not all of them are up to 3 n + digit.
         all_less = 4 * all_less + all_same
         all_same = 2 * all_same
         if digit == "0":
@@ -320,10 +321,9 @@ class Counts:
         return length + self._cell.members[-1] - self._cell.members[0]
 
     def __eq__(self, other):
-        if not isinstance(other, Counts):
+        if not isinstance(other, Counts) or self.__class__.__name__ != other.__class__.__name__:
             return False
-        alike = self.__class__.__name__ == other.__class__.__name__
-        return alike and self._sequence == other._sequence
+        return self._sequence == other._sequence
 
 
 class BaseCounts(Counts):

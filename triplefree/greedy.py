@@ -231,6 +231,13 @@ class GreedySequence:
             return self._members[:count]
         return grown(self._last, self._growth_so_far(), 0, count)[0][:count]
 
+    def _agrees(self, other):
+        """True if the sequences agree as far as both starts, so that they are the same; changes nothing."""
+        fewer = min(len(self._start), len(other._start))
+        count = max(len(self._start), len(other._start))
+        # Most sequences differ where both starts are known.
+        return self._start[:fewer] == other._start[:fewer] and self._first(count) == other._first(count)
+
     def _growth_so_far(self):
         """The growth that is known."""
         if self._growth is None:
@@ -270,16 +277,10 @@ class GreedySequence:
         return pairs
 
     def __eq__(self, other):
-        if not isinstance(other, GreedySequence):
-            return False
-        fewer = min(len(self._start), len(other._start))
-        count = max(len(self._start), len(other._start))
-        # Sequences are the same if they agree as far as both starts; most differ before.
-        return self._start[:fewer] == other._start[:fewer] and self._first(count) == other._first(count)
+        return isinstance(other, GreedySequence) and self._agrees(other)
 
     def __str__(self):
-        numbers = " ".join([str(x) for x in self._start])
-        return f"{numbers} .."
+        return " ".join([str(x) for x in self._start] + [".."])
 
 
 class ClosestSequence(GreedySequence):

@@ -82,7 +82,7 @@ def tripled_cell(cell):
         raise TooLarge(Cell.MAX_MODULUS)
     if 2 * cell.size > Cell.MAX_MEMBERS:
         raise TooLarge(Cell.MAX_MEMBERS)
-    return Cell(3 * cell.modulus, [*cell.members, *[a + cell.modulus for a in cell.members]])
+    return Cell(3 * cell.modulus, list(cell.members) + [a + cell.modulus for a in cell.members])
 
 
 class RuledSequence:
@@ -163,8 +163,9 @@ class RuledSequence:
 
     def __eq__(self, other):
         # A shifted sequence is equal to shifted sequences only, whatever its shift.
-        plain = isinstance(other, RuledSequence) and not isinstance(other, ShiftedSequence)
-        return plain and self._cell == other._cell
+        if not isinstance(other, RuledSequence) or isinstance(other, ShiftedSequence):
+            return False
+        return self._cell == other._cell
 
 
 class ShiftedSequence(RuledSequence):
