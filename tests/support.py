@@ -127,6 +127,12 @@ def plain_violation(modulus, members):
     return None
 
 
+def plain_cells(modulus):
+    """The members of all cells with a modulus, in ascending order, by the definition."""
+    rows = [row for size in range(1, modulus + 1) for row in itertools.combinations(range(modulus), size)]
+    return sorted(row for row in rows if plain_violation(modulus, row) is None)
+
+
 def plain_ruled(modulus, members, limit):
     """The members below limit of the set in [21]."""
     return sorted(a + modulus * b for b in plain_base(limit // modulus + 1) for a in members if a + modulus * b < limit)

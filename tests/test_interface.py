@@ -27,8 +27,30 @@ FUNCTIONS = {
         "common_beginning(*sequences)",
         "smallest_triple(*numbers)",
     ],
+    "triplefree.products": [
+        "product(*cells)",
+        "power(cell, exponent)",
+        "left_quotient(cell, factor)",
+        "right_quotient(cell, factor)",
+        "factorizations(cell)",
+        "is_irreducible(cell)",
+        "chain(cell)",
+    ],
+    "triplefree.search": [
+        "ruling(start, *, most=81)",
+        "moduli(start, *, most=81)",
+        "cells_of(modulus)",
+        "least_start(cell)",
+    ],
+    "triplefree.comparison": [
+        "first_difference(one, other)",
+        "agreement(*sequences)",
+        "translation(one, other)",
+        "reduced(cell)",
+        "lowered(cell)",
+    ],
 }
-GENERATORS = ["sum_pairs", "base_members", "coverings", "walk", "uncovered"]
+GENERATORS = ["sum_pairs", "base_members", "coverings", "walk", "uncovered", "factorizations", "moduli", "cells_of"]
 CLASSES = {
     "triplefree.base": {
         "Ternary(number)": [
@@ -139,6 +161,49 @@ CLASSES = {
             "method readings(self, m)",
         ],
     },
+    "triplefree.products": {
+        "Stack(*cells)": [
+            "property cells",
+            "property modulus",
+            "property size",
+            "property greatest",
+            "method member(self, number)",
+            "method rank(self, x)",
+            "method contains(self, x)",
+            "method walk(self, start=0)",
+            "method coordinates(self, x)",
+            "method composed_pair(self, x)",
+            "method number_of(self, *coordinates)",
+            "method push(self, *cells)",
+            "method drop(self)",
+            "class repeated(cell, count)",
+            "static fits(value)",
+            "method __len__(self)",
+            "method __eq__(self, other)",
+        ],
+    },
+    "triplefree.search": {
+        "Verdict(start, modulus)": [
+            "class of(start, modulus)",
+            "static check(start, modulus, certificate)",
+            "property start",
+            "property modulus",
+            "method is_ruling(self)",
+            "method certificate(self)",
+        ],
+        "Ruling(start, modulus, cell)": [
+            "property cell",
+            "method is_ruling(self)",
+            "method certificate(self)",
+            "method as_sequence(self)",
+        ],
+        "Clash(start, modulus, triple)": [
+            "method certificate(self)",
+        ],
+        "Unserved(start, modulus, remainder)": [
+            "method certificate(self)",
+        ],
+    },
 }
 
 
@@ -186,6 +251,9 @@ class InterfaceTest(unittest.TestCase):
             ("triplefree.greedy", "ClosestSequence", "GreedySequence"),
             ("triplefree.ruled", "ShiftedSequence", "RuledSequence"),
             ("triplefree.counts", "BaseCounts", "Counts"),
+            ("triplefree.search", "Ruling", "Verdict"),
+            ("triplefree.search", "Clash", "Verdict"),
+            ("triplefree.search", "Unserved", "Verdict"),
         ]
         for place, name, base in rows:
             module = importlib.import_module(place)

@@ -2,9 +2,23 @@
 
 from triplefree.base import base_member
 from triplefree.common import bits_of, covered_bits, is_between, lowest_place, moved, places_of
-from triplefree.errors import InvalidMembers, InvalidModulus, InvalidNumber, IsMember, NotFree, NotServed
+from triplefree.errors import (
+    InvalidCell,
+    InvalidMembers,
+    InvalidModulus,
+    InvalidNumber,
+    IsMember,
+    NotFree,
+    NotServed,
+)
 
 MAX_DIGITS = 8
+
+
+def check_cell(value, part):
+    """Raises InvalidCell with this part unless the value is a cell."""
+    if not isinstance(value, Cell):
+        raise InvalidCell(part)
 
 
 def checked_members(modulus, members):
