@@ -37,6 +37,22 @@ GREAT_NUMBERS = (
 )
 
 
+class Chooser:
+    """Choices without a plan, but the same ones in every run."""
+
+    def __init__(self, seed):
+        self.value = seed
+
+    def below(self, limit):
+        """A number from 0 to limit - 1."""
+        self.value = (self.value * 6364136223846793005 + 1442695040888963407) % 2 ** 64
+        return (self.value >> 33) % limit
+
+    def one_of(self, items):
+        """One of some items."""
+        return items[self.below(len(items))]
+
+
 class Thing:
     """An object that is nothing that the program knows."""
 

@@ -13,6 +13,7 @@ BUILTINS = vars(builtins)
 STATEMENTS = (ast.Global, ast.AsyncFunctionDef, ast.AsyncFor, ast.AsyncWith, ast.Await, ast.Div)
 DOUBLE = ["__init__", "__eq__", "__repr__", "__str__", "__len__"]
 DECORATORS = ["property", "staticmethod", "classmethod"]
+VALUES = (ast.Constant, ast.Tuple, ast.Dict, ast.BinOp, ast.Pow, ast.Load, ast.Name)
 BARRED = ["typing", "enum", "namedtuple", "dataclass", "overload", "contextmanager", "abstractmethod", "_wall"]
 
 
@@ -79,6 +80,7 @@ class FormTest(unittest.TestCase):
     def test_module_level(self):
         for name, _, tree in sources():
             bound = []
+            functions = []
             for node in tree.body:
                 self.assertIsInstance(node, (ast.Expr, ast.ImportFrom, ast.FunctionDef, ast.ClassDef, ast.Assign), name)
                 if isinstance(node, ast.Expr):
@@ -87,9 +89,12 @@ class FormTest(unittest.TestCase):
                     bound += [alias.name for alias in node.names]
                 elif isinstance(node, (ast.FunctionDef, ast.ClassDef)):
                     bound.append(node.name)
+                    functions += [node.name] * isinstance(node, ast.FunctionDef)
                 elif isinstance(node, ast.Assign):
                     for part in ast.walk(node.value):
-                        self.assertIsInstance(part, (ast.Constant, ast.Tuple, ast.Dict, ast.BinOp, ast.Pow, ast.Load), name)
+                        self.assertIsInstance(part, VALUES, name)
+                        # A table may hold functions that are defined above it.
+                        self.assertIn(getattr(part, "id", None), [None, *functions], name)
                     bound.append(node.targets[0].id)
             self.assertEqual(len(bound), len(set(bound)), name)
 

@@ -49,8 +49,19 @@ FUNCTIONS = {
         "reduced(cell)",
         "lowered(cell)",
     ],
+    "triplefree.formatting": [
+        "format_numbers(*numbers)",
+        "format_catalogue(**cells)",
+    ],
+    "triplefree.parsing": [
+        "parse_numbers(text)",
+        "numbers_in(text)",
+        "parse_cell(text)",
+        "parse_catalogue(text)",
+    ],
 }
 GENERATORS = ["sum_pairs", "base_members", "coverings", "walk", "uncovered", "factorizations", "moduli", "cells_of"]
+GENERATORS += ["numbers_in", "replay"]
 CLASSES = {
     "triplefree.base": {
         "Ternary(number)": [
@@ -204,6 +215,54 @@ CLASSES = {
             "method certificate(self)",
         ],
     },
+    "triplefree.growing": {
+        "Growing(start)": [
+            "property position",
+            "property reserved",
+            "property forbidden",
+            "property change_count",
+            "method grow(self, count=1)",
+            "method grow_to(self, number)",
+            "method reserve(self, *numbers)",
+            "method forbid(self, *numbers)",
+            "method release(self, *numbers)",
+            "method kind(self, number)",
+            "method certificate(self, number)",
+            "method walk(self)",
+            "method is_member(self, number)",
+            "method tail(self, modulus)",
+            "class reaching(numbers)",
+            "static first_triple(numbers)",
+            "method undo(self)",
+            "method copy(self)",
+            "method __eq__(self, other)",
+            "method __len__(self)",
+            "method __repr__(self)",
+        ],
+        "LoggedGrowing(start)": [
+            "property refusals",
+            "method __repr__(self)",
+        ],
+    },
+    "triplefree.session": {
+        "Session(**cells)": [
+            "method execute(self, command)",
+            "method attempt(self, *commands)",
+            "method replay(self, *commands)",
+            "method ask(self, question, *numbers, cell, shift=0)",
+            "property names",
+            "property text",
+            "method lookup(self, name)",
+            "method load(self, text)",
+            "static is_name(value)",
+            "class restore(text)",
+            "method __len__(self)",
+            "method __eq__(self, other)",
+        ],
+        "Recorder(**cells)": [
+            "property transcript",
+        ],
+    },
 }
 
 
@@ -254,6 +313,8 @@ class InterfaceTest(unittest.TestCase):
             ("triplefree.search", "Ruling", "Verdict"),
             ("triplefree.search", "Clash", "Verdict"),
             ("triplefree.search", "Unserved", "Verdict"),
+            ("triplefree.growing", "LoggedGrowing", "Growing"),
+            ("triplefree.session", "Recorder", "Session"),
         ]
         for place, name, base in rows:
             module = importlib.import_module(place)

@@ -1,9 +1,13 @@
-"""What several files use: checks of arguments, and sets of numbers.
+"""What several files use: checks of arguments and of names, and sets of numbers.
 
 A set of numbers can be kept as the binary digits 1 of one integer, so that one step treats all of them.
 """
 
 from triplefree.errors import InvalidNumber
+
+# How many cells a catalogue can hold, and how long their names can be.
+MAX_NAMES = 26
+MAX_LETTERS = 8
 
 
 def is_whole(value):
@@ -26,6 +30,13 @@ def check_number(value):
     """Raises InvalidNumber unless the value is an integer of at least 0."""
     if not is_number(value):
         raise InvalidNumber(value)
+
+
+def is_cell_name(value):
+    """True for a string of 1 to 8 letters from a to z, False for every other value of any kind."""
+    if not isinstance(value, str) or not 1 <= len(value) <= MAX_LETTERS:
+        return False
+    return all(["a" <= letter <= "z" for letter in value])
 
 
 def is_covering(pair, x):
