@@ -418,6 +418,22 @@ class TailTest(unittest.TestCase, Checks):
         growing.grow(1)
         self.fails(NotRuled, {"limit": 9}, growing.tail, 9)
 
+    def test_members_of_the_sequence_that_are_missing(self):
+        # All members are those of the sequence, but 9 is not among them.
+        growing = Growing((0,))
+        growing.forbid(9)
+        growing.grow_to(8)
+        growing.release(9)
+        self.same(growing.tail(9), RuledSequence(Cell.base(digits=2)))
+        growing.undo()
+        growing.grow_to(9)
+        self.same(growing.forbidden, ())
+        self.fails(NotRuled, {"limit": 9}, growing.tail, 9)
+        growing = Growing((0,))
+        growing.forbid(1)
+        growing.grow(1)
+        self.fails(NotRuled, {"limit": 1}, growing.tail, 1)
+
     def test_many_members(self):
         growing = Growing((0,))
         for _ in range(4):
@@ -540,6 +556,33 @@ class UndoTest(unittest.TestCase, Checks):
     def test_nothing_to_undo(self):
         for made in KINDS:
             self.fails(NothingToUndo, {}, made((0,)).undo)
+
+    def test_what_was_decided_is_forgotten(self):
+        growing = Growing((0,))
+        growing.reserve(8)
+        growing.forbid(3)
+        growing.grow(4)
+        self.same([growing.kind(x) for x in range(5)], ["member", "member", "covered", "forbidden", "blocked"])
+        growing.undo()
+        growing.undo()
+        growing.forbid(1, 4)
+        growing.release(8)
+        growing.reserve(2)
+        growing.grow(4)
+        # 3 and 4 had other kinds before.
+        self.same([growing.kind(x) for x in range(5)], ["member", "blocked", "member", "member", "covered"])
+        self.same([growing.certificate(x) for x in range(5)], [None, (0, 1, 2), None, None, (0, 2)])
+        for _ in range(4):
+            growing.undo()
+        growing.release(8)
+        growing.forbid(1, 2, 3, 4)
+        growing.grow(4)
+        self.same([growing.kind(x) for x in range(5)], ["member", "forbidden", "forbidden", "forbidden", "forbidden"])
+        growing.undo()
+        growing.undo()
+        growing.reserve(2, 3)
+        growing.grow(4)
+        self.same([growing.kind(x) for x in range(5)], ["member", "blocked", "member", "member", "covered"])
 
     def test_undo_of_a_step_over_reserved_and_forbidden_numbers(self):
         growing = Growing((0,))

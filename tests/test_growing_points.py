@@ -350,9 +350,9 @@ class Point65Test(unittest.TestCase, Checks):
             self.same(growing.tail(modulus), tail)
 
     def test_by_the_conditions(self):
-        for numbers in FREE_SETS[::7]:
+        for numbers, count in itertools.product(FREE_SETS[::7], (0, 1, 5)):
             growing = Growing.reaching(numbers)
-            growing.grow(5)
+            growing.grow(count)
             members = [x for x in range(growing.position + 1) if growing.is_member(x)]
             for modulus in range(1, growing.position + 4):
                 below = [x for x in members if x < modulus]

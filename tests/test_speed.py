@@ -4,9 +4,13 @@ import itertools
 import unittest
 
 from tests.support import lines_run, plain_base
-from triplefree import base
+from triplefree import base, comparison
 from triplefree.cells import Cell
 from triplefree.greedy import ClosestSequence, GreedySequence, common_beginning, first_difference
+from triplefree.growing import Growing
+from triplefree.products import Stack
+from triplefree.ruled import RuledSequence
+from triplefree.search import moduli
 
 FORTY = tuple(plain_base(1000)[:40])
 WIDE = (*FORTY[:39], 10 ** 6)
@@ -69,6 +73,38 @@ class DigitsTest(unittest.TestCase):
 class CellTest(unittest.TestCase):
     def test_making_a_great_cell(self):
         self.assertLess(lines_run(Cell, 3 ** 8, plain_base(3 ** 8)), 10000)
+
+
+class StackTest(unittest.TestCase):
+    def test_questions_about_high_stacks(self):
+        stack = Stack.repeated(Cell(10, (0, 1, 7, 8)), 100)
+        x = stack.member(10 ** 59)
+        for call in (stack.member, stack.rank, stack.contains, stack.coordinates, stack.composed_pair):
+            self.assertLess(lines_run(call, x), 3500)
+
+
+class SearchTest(unittest.TestCase):
+    def test_moduli_are_found_one_by_one(self):
+        self.assertLess(lines_run(lambda: next(moduli((0, 3), most=729))), 4000)
+
+    def test_sequences_are_compared_as_far_as_they_agree(self):
+        great = RuledSequence(Cell.base(digits=8))
+        other = RuledSequence(Cell(10, (0, 1, 7, 8)))
+        self.assertLess(lines_run(comparison.first_difference, great, other), 150)
+        self.assertLess(lines_run(comparison.agreement, great, other, great), 5000)
+
+
+class GrowingTest(unittest.TestCase):
+    def test_steps(self):
+        for start in ((0,), (0, 4)):
+            self.assertLess(lines_run(Growing(start).grow, 2000), 150000)
+
+    def test_a_small_change_of_a_great_set(self):
+        growing = Growing((0, 4))
+        growing.grow(5000)
+        self.assertLess(lines_run(growing.grow, 1), 3000)
+        self.assertLess(lines_run(growing.forbid, 10 ** 6), 50)
+        self.assertLess(lines_run(growing.undo), 50)
 
 
 if __name__ == "__main__":

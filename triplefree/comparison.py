@@ -46,7 +46,7 @@ def agreement(*sequences):
     for index, value in enumerate(sequences):
         check_ruled(value, index)
     counts = []
-    for sequence in sequences:
+    for sequence in sequences[1:]:
         found = parting(sequences[0], sequence)
         if found is not None:
             counts.append(found[0])

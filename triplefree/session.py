@@ -1,7 +1,7 @@
 """Sessions: catalogues of cells that commands change and ask."""
 
 from triplefree.cells import Cell
-from triplefree.common import check_number, is_cell_name
+from triplefree.common import is_cell_name
 from triplefree.errors import (
     InvalidCell, InvalidCertificate, InvalidNumber, InvalidText, IsMember, NotCovered, NothingToUndo, TooLarge,
 )
@@ -276,8 +276,6 @@ class Session:
         sequence = ShiftedSequence(self.lookup(cell), shift=shift)
         if not isinstance(question, str) or question not in QUESTIONS:
             raise InvalidCertificate("question")
-        for number in numbers:
-            check_number(number)
         asked = QUESTIONS[question]
         return tuple([asked(sequence, number) for number in numbers])
 
